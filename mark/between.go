@@ -47,7 +47,7 @@ func checkEnds(a, b api.Mark) api.Errno {
 	return api.OK
 }
 
-// findGap between two paths that is wanted, with as few steps as may be: steps are scarce, digits are not.
+// findGap between two paths that is wanted, behind beginnings of either, the shortest first: steps are scarce, digits are not.
 // One step deeper than both paths all digits are free, so the last gap has room for whatever is asked.
 func findGap(a, b []api.Step, site int, wanted func(gap) bool) gap {
 	deepest := max(len(a), len(b))
