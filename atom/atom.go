@@ -6,13 +6,9 @@ import (
 	"slices"
 
 	"commonplace/api"
+	"commonplace/fresh"
 	"commonplace/mark"
-)
-
-// Signs are the bytes from the first to the last one.
-const (
-	firstSign = 32
-	lastSign  = 126
+	"commonplace/sign"
 )
 
 // Check atoms.
@@ -24,7 +20,7 @@ func Check(l []api.Atom) api.Errno {
 		if e := mark.Check(a.Mark); e != api.OK {
 			return e
 		}
-		if a.Sign < firstSign || a.Sign > lastSign {
+		if !sign.Is(a.Sign) {
 			return api.ErrRange
 		}
 		if i > 0 && mark.Order(l[i-1].Mark, a.Mark) >= 0 {
@@ -51,16 +47,19 @@ func Put(l, m []api.Atom) ([]api.Atom, api.Errno) {
 	if e := cmp.Or(Check(l), Check(m)); e != api.OK {
 		return nil, e
 	}
-	both := slices.Concat(l, m)
-	slices.SortFunc(both, func(a, b api.Atom) int {
-		return cmp.Or(mark.Order(a.Mark, b.Mark), cmp.Compare(a.Sign, b.Sign))
-	})
-	// Of one mark the first one stays, and that has the lesser sign now.
-	both = slices.CompactFunc(both, func(a, b api.Atom) bool { return mark.Order(a.Mark, b.Mark) == 0 })
-	if len(both) > api.MaxText {
+	out := pick(l, func(int) bool { return true })
+	for _, a := range m {
+		at, found := find(out, a.Mark)
+		if found {
+			out[at].Sign = min(out[at].Sign, a.Sign)
+		} else {
+			out = slices.Insert(out, at, api.Atom{Mark: fresh.Mark(a.Mark), Sign: a.Sign})
+		}
+	}
+	if len(out) > api.MaxText {
 		return nil, api.ErrMany
 	}
-	return pick(both, func(int) bool { return true }), api.OK
+	return out, api.OK
 }
 
 // Take atoms.
@@ -71,12 +70,16 @@ func Take(l []api.Atom, m []api.Mark) ([]api.Atom, api.Errno) {
 	// Each mark is looked for among the atoms, not the other way round: atoms are few and in order, marks may be neither.
 	taken := make([]bool, len(l))
 	for _, x := range m {
-		i, found := slices.BinarySearchFunc(l, x, func(a api.Atom, x api.Mark) int { return mark.Order(a.Mark, x) })
-		if found {
-			taken[i] = true
+		if at, found := find(l, x); found {
+			taken[at] = true
 		}
 	}
 	return pick(l, func(i int) bool { return !taken[i] }), api.OK
+}
+
+// find a mark among those of atoms in order: where it is, or is to stand.
+func find(l []api.Atom, m api.Mark) (at int, found bool) {
+	return slices.BinarySearchFunc(l, m, func(a api.Atom, m api.Mark) int { return mark.Order(a.Mark, m) })
 }
 
 // pick the atoms at places that are wanted, as new memory.
@@ -84,7 +87,7 @@ func pick(l []api.Atom, wanted func(i int) bool) []api.Atom {
 	var out []api.Atom
 	for i, a := range l {
 		if wanted(i) {
-			out = append(out, api.Atom{Mark: api.Mark{Path: slices.Clone(a.Mark.Path), Clock: a.Mark.Clock}, Sign: a.Sign})
+			out = append(out, api.Atom{Mark: fresh.Mark(a.Mark), Sign: a.Sign})
 		}
 	}
 	return out
