@@ -20,3 +20,10 @@ func All(text string) bool {
 	}
 	return true
 }
+
+// Each sign of a text, with its place, is handed to do.
+func Each(text string, do func(at int, b byte)) {
+	for i := range len(text) {
+		do(i, text[i])
+	}
+}

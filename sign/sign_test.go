@@ -25,3 +25,18 @@ func TestAll(t *testing.T) {
 		}
 	}
 }
+
+func TestEach(t *testing.T) {
+	for _, text := range []string{"", "a", "hello", "é\xff\x00"} {
+		var got []byte
+		sign.Each(text, func(at int, b byte) {
+			if at != len(got) {
+				t.Errorf("%q: place %d comes behind %d others", text, at, len(got))
+			}
+			got = append(got, b)
+		})
+		if string(got) != text {
+			t.Errorf("the signs of %q are %q", text, got)
+		}
+	}
+}
