@@ -11,3 +11,40 @@ import (
 func Mark(m api.Mark) api.Mark {
 	return api.Mark{Path: slices.Clone(m.Path), Clock: m.Clock}
 }
+
+// Note: a copy of one.
+func Note(n api.Note) api.Note {
+	n.Needs = slices.Clone(n.Needs)
+	n.Deeds = list(n.Deeds, deed)
+	return n
+}
+
+// Desk: a copy of one.
+func Desk(d api.Desk) api.Desk {
+	d.State.Atoms = list(d.State.Atoms, atom)
+	d.State.Gone = list(d.State.Gone, Mark)
+	d.Seen = slices.Clone(d.Seen)
+	d.Waits = list(d.Waits, Note)
+	d.Out = list(d.Out, Note)
+	return d
+}
+
+func atom(a api.Atom) api.Atom {
+	a.Mark = Mark(a.Mark)
+	return a
+}
+
+func deed(d api.Deed) api.Deed {
+	d.Run.Mark = Mark(d.Run.Mark)
+	d.Mark = Mark(d.Mark)
+	return d
+}
+
+// list: a copy of one, each thing of it copied by one.
+func list[T any](l []T, one func(T) T) []T {
+	var out []T
+	for _, x := range l {
+		out = append(out, one(x))
+	}
+	return out
+}

@@ -24,3 +24,65 @@ func TestMark(t *testing.T) {
 		t.Errorf("the copy of nothing is %v", got)
 	}
 }
+
+// desk with something in each list, and spare room behind each.
+func desk() api.Desk {
+	path := func(digit int) api.Mark {
+		return api.Mark{Path: append(make([]api.Step, 0, 3), api.Step{Digit: digit, Site: 1}), Clock: digit}
+	}
+	note := func(number int) api.Note {
+		deeds := append(make([]api.Deed, 0, 4), api.Deed{Kind: 1, Run: api.Run{Mark: path(5), Text: "a"}}, api.Deed{Kind: 2, Mark: path(6), Many: 2})
+		return api.Note{Site: 2, Number: number, Needs: append(make([]int, 0, 9), 1, 2, 3), Deeds: deeds}
+	}
+	return api.Desk{
+		Site:  3,
+		State: api.State{Atoms: append(make([]api.Atom, 0, 4), api.Atom{Mark: path(1), Sign: 'x'}), Gone: append(make([]api.Mark, 0, 4), path(2))},
+		Seen:  append(make([]int, 0, 9), 7, 8),
+		Waits: append(make([]api.Note, 0, 4), note(1), note(2)),
+		Clock: 9,
+		Out:   append(make([]api.Note, 0, 4), note(3)),
+	}
+}
+
+// spoil whatever a value has in lists, and the room behind them.
+func spoil(v reflect.Value) {
+	switch v.Kind() {
+	case reflect.Struct:
+		for i := range v.NumField() {
+			spoil(v.Field(i))
+		}
+	case reflect.Slice:
+		all := v.Slice(0, v.Cap())
+		for i := range all.Len() {
+			spoil(all.Index(i))
+			all.Index(i).SetZero()
+		}
+	}
+}
+
+func TestDesk(t *testing.T) {
+	d := desk()
+	got := fresh.Desk(d)
+	if !reflect.DeepEqual(got, desk()) {
+		t.Fatalf("the copy is %v", got)
+	}
+	spoil(reflect.ValueOf(got))
+	if !reflect.DeepEqual(d, desk()) {
+		t.Error("the copy shares memory")
+	}
+	if got := fresh.Desk(api.Desk{}); !reflect.DeepEqual(got, api.Desk{}) {
+		t.Errorf("the copy of nothing is %v", got)
+	}
+}
+
+func TestNote(t *testing.T) {
+	n := desk().Waits[1]
+	got := fresh.Note(n)
+	if !reflect.DeepEqual(got, desk().Waits[1]) {
+		t.Fatalf("the copy is %v", got)
+	}
+	spoil(reflect.ValueOf(got))
+	if !reflect.DeepEqual(n, desk().Waits[1]) {
+		t.Error("the copy shares memory")
+	}
+}
