@@ -19,14 +19,27 @@ func Note(n api.Note) api.Note {
 	return n
 }
 
+// Notes: a copy of a list of them.
+func Notes(l []api.Note) []api.Note { return list(l, Note) }
+
+// World: a copy of one.
+func World(w api.World) api.World {
+	return api.World{Clients: list(w.Clients, client), Relay: api.Relay{Log: Notes(w.Relay.Log)}}
+}
+
 // Desk: a copy of one.
 func Desk(d api.Desk) api.Desk {
 	d.State.Atoms = list(d.State.Atoms, atom)
 	d.State.Gone = list(d.State.Gone, Mark)
 	d.Seen = slices.Clone(d.Seen)
-	d.Waits = list(d.Waits, Note)
-	d.Out = list(d.Out, Note)
+	d.Waits = Notes(d.Waits)
+	d.Out = Notes(d.Out)
 	return d
+}
+
+func client(c api.Client) api.Client {
+	c.Desk = Desk(c.Desk)
+	return c
 }
 
 func atom(a api.Atom) api.Atom {
@@ -42,9 +55,9 @@ func deed(d api.Deed) api.Deed {
 
 // list: a copy of one, each thing of it copied by one.
 func list[T any](l []T, one func(T) T) []T {
-	var out []T
-	for _, x := range l {
-		out = append(out, one(x))
+	out := slices.Clone(l)
+	for i, x := range l {
+		out[i] = one(x)
 	}
 	return out
 }

@@ -86,3 +86,41 @@ func TestNote(t *testing.T) {
 		t.Error("the copy shares memory")
 	}
 }
+
+func TestNotes(t *testing.T) {
+	l := desk().Waits
+	got := fresh.Notes(l)
+	if !reflect.DeepEqual(got, desk().Waits) {
+		t.Fatalf("the copy is %v", got)
+	}
+	spoil(reflect.ValueOf(got))
+	if !reflect.DeepEqual(l, desk().Waits) {
+		t.Error("the copy shares memory")
+	}
+	if got := fresh.Notes(nil); len(got) != 0 {
+		t.Errorf("the copy of nothing is %v", got)
+	}
+}
+
+// world with something in each list, and spare room behind each.
+func world() api.World {
+	return api.World{
+		Clients: append(make([]api.Client, 0, 4), api.Client{Desk: desk(), Cursor: 1}, api.Client{Desk: desk(), Cursor: 2}),
+		Relay:   api.Relay{Log: desk().Waits},
+	}
+}
+
+func TestWorld(t *testing.T) {
+	w := world()
+	got := fresh.World(w)
+	if !reflect.DeepEqual(got, world()) {
+		t.Fatalf("the copy is %v", got)
+	}
+	spoil(reflect.ValueOf(got))
+	if !reflect.DeepEqual(w, world()) {
+		t.Error("the copy shares memory")
+	}
+	if got := fresh.World(api.World{}); !reflect.DeepEqual(got, api.World{}) {
+		t.Errorf("the copy of nothing is %v", got)
+	}
+}
