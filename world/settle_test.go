@@ -208,3 +208,22 @@ func TestL3Example(t *testing.T) {
 	}
 	checkSettled(t, w)
 }
+
+// Without room in a text, a client takes nothing of a pull, and goes on with its own.
+func TestL3NoRoomInTexts(t *testing.T) {
+	w := newWorld(t, 3)
+	for range 3 {
+		w = do(t, w, put(0, 300, xs(60)), put(1, 300, xs(60)))
+	}
+	w = settle(t, w)
+	for who, size := range []int{180, 180, 0} {
+		c := w.Clients[who]
+		if len(c.Desk.State.Atoms) != size || c.Cursor != 0 || len(c.Desk.Out) != 0 {
+			t.Errorf("client %d: %d signs, cursor %d, %d out", who, len(c.Desk.State.Atoms), c.Cursor, len(c.Desk.Out))
+		}
+	}
+	w = do(t, w, pull(2, 5))
+	if got := len(w.Clients[2].Desk.State.Atoms); got != 300 {
+		t.Errorf("%d signs", got)
+	}
+}
